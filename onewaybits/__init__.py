@@ -1,0 +1,1 @@
+"""Onewaybits: files on chips whose bits only fall."""
