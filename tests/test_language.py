@@ -8,14 +8,14 @@ import unittest
 PACKAGE = pathlib.Path(__file__).resolve().parent.parent / "onewaybits"
 BUILTINS = (
     "len range enumerate zip min max sum abs sorted reversed int str bool list tuple dict set isinstance ord repr any"
-    " all divmod pow map iter next super property ValueError TypeError KeyError IndexError LookupError ZeroDivisionError"
-    " NotImplemented"
+    " all divmod pow map iter next super property ValueError TypeError KeyError IndexError LookupError"
+    " ZeroDivisionError NotImplemented"
 ).split()
 METHODS = (
     "append clear copy count endswith extend find get index insert isalnum isalpha isdigit islower isspace isupper"
     " items join keys ljust lower lstrip partition pop remove replace reverse rfind rjust rpartition rsplit rstrip"
-    " setdefault split splitlines startswith strip update upper values zfill bit_length add discard isascii isdecimal removeprefix"
-    " removesuffix rindex"
+    " setdefault split splitlines startswith strip update upper values zfill bit_length add discard isascii isdecimal"
+    " removeprefix removesuffix rindex"
 ).split()
 DUNDERS = ["__init__", "__eq__", "__len__", "__repr__", "__str__"]
 BARRED_WORDS = (
