@@ -5,11 +5,19 @@ from onewaybits.kinds import is_int, is_int_from, is_mask, is_octets
 
 MOST_OCTETS_OF_A_NUMBER = 8
 
+# The number of the 0 bits of each half of an octet.
+ZEROS_OF_HALF = (4, 3, 3, 2, 3, 2, 2, 1, 3, 2, 2, 1, 2, 1, 1, 0)
+
 
 def zeros(octets):
     """Return the number of the bits that are 0."""
     _check_octets(octets)
-    return sum([8 - f"{octet:b}".count("1") for octet in octets])
+    return zero_bits(octets)
+
+
+def zero_bits(octets):
+    """Return the number of the bits that are 0 of what is known to be a list of octets."""
+    return sum([ZEROS_OF_HALF[octet >> 4] + ZEROS_OF_HALF[octet & 15] for octet in octets])
 
 
 def falls(old, new):
@@ -40,6 +48,11 @@ def changed(old, new, mask):
 def number_in(octets):
     """Return the number that the octets tell, the highest one first."""
     _check_octets(octets)
+    return number_told_by(octets)
+
+
+def number_told_by(octets):
+    """Return the number that is told by what is known to be a list of octets."""
     number = 0
     for octet in octets:
         number = number * 256 + octet

@@ -42,7 +42,7 @@ class PointTest(unittest.TestCase):
     def check_example(self, example, names):
         want = example.want.strip()
         if want.startswith("raises "):
-            name, told = want.removeprefix("raises ").rstrip(")").split("(", 1)
+            name, told = want.removeprefix("raises ").removesuffix(")").split("(", 1)
             with self.assertRaises(ValueError) as caught:
                 exec(example.source, names)
             self.assertEqual(type(caught.exception).__name__, name)

@@ -3,7 +3,10 @@
 import ast
 import builtins
 import pathlib
+import re
 import unittest
+
+from onewaybits import errors
 
 PACKAGE = pathlib.Path(__file__).resolve().parent.parent / "onewaybits"
 BUILTINS = (
@@ -22,9 +25,17 @@ BARRED_WORDS = (
     "register mro elements open input law version_info with_traceback add_note type typing enum Enum namedtuple"
     " dataclass"
 ).split()
+# Some of these LANGUAGE.md allows, with conditions of their own; the package does without them.
 BARRED_NODES = (
     ast.AsyncFunctionDef, ast.AsyncFor, ast.AsyncWith, ast.Await, ast.Global, ast.GeneratorExp, ast.Import, ast.Div,
-    ast.AnnAssign,
+    ast.AnnAssign, ast.Set, ast.SetComp, ast.Starred, ast.Lambda, ast.NamedExpr, ast.Nonlocal, ast.Match, ast.With,
+    ast.Yield,
+    ast.YieldFrom, ast.Assert, ast.Delete,
+)
+# Beginnings that no name has, beside those of LANGUAGE.md that the names below would have, too.
+BARRED_BEGINNINGS = re.compile(
+    r"_(wall|pe_|dcw_|enum_|cm_|twin_re_|lay_|law_|stub_|sre|WallAttr|cold[_0-9]*$|tuplegetter[_0-9]*$|outside[_0-9]*$"
+    r"|record[_0-9]*$|written_out[_0-9]*$|member_names[_0-9]*$)"
 )
 
 
@@ -131,6 +142,67 @@ class LanguageTest(unittest.TestCase):
             self.assertFalse(name.startswith("__") or name in BARRED_WORDS, f"{place}: {name}")
         for place, node in nodes(ast.Attribute):
             self.assertFalse(node.attr.startswith("__") or node.attr in BARRED_WORDS, place)
+
+    def test_no_name_has_a_barred_beginning(self):
+        for place, name in bound_names() + [(place, node.name) for place, node in nodes(ast.FunctionDef)]:
+            self.assertIsNone(BARRED_BEGINNINGS.match(name), f"{place}: {name}")
+
+    def test_no_local_name_is_that_of_a_class_or_an_import_of_its_file(self):
+        for path in files():
+            body = ast.parse(path.read_text()).body
+            taken = [node.name for node in body if isinstance(node, ast.ClassDef)]
+            taken += [alias.name for node in body if isinstance(node, ast.ImportFrom) for alias in node.names]
+            for place, name in bound_names():
+                if place.startswith(f"{path.name}:") and name in taken:
+                    self.assertIn(name, [node.name for node in body if isinstance(node, ast.ClassDef)], place)
+
+    def test_module_level_has_plain_values_alone(self):
+        for path in files():
+            for node in ast.parse(path.read_text()).body:
+                place = f"{path.name}:{node.lineno}"
+                if isinstance(node, ast.Expr):
+                    self.assertIsInstance(node.value, ast.Constant, place)
+                elif isinstance(node, ast.Assign):
+                    self.assertEqual([type(target) for target in node.targets], [ast.Name], place)
+                    barred = (ast.Call, ast.comprehension, ast.Attribute, ast.Subscript, ast.IfExp)
+                    self.assertFalse(any(isinstance(part, barred) for part in ast.walk(node)), place)
+                else:
+                    self.assertIsInstance(node, (ast.ImportFrom, ast.FunctionDef, ast.ClassDef), place)
+
+    def test_default_values_are_plain(self):
+        for place, node in nodes(ast.FunctionDef):
+            for value in node.args.defaults + node.args.kw_defaults:
+                self.assertIsInstance(value, ast.Constant, place)
+            self.assertEqual((node.args.vararg, node.args.kwarg, node.args.posonlyargs, node.args.kwonlyargs),
+                             (None, None, [], []))
+
+    def test_own_errors_alone_are_caught_and_raised(self):
+        own = [name for name, value in vars(errors).items() if isinstance(value, type)]
+        for place, node in nodes(ast.ExceptHandler):
+            caught = node.type.elts if isinstance(node.type, ast.Tuple) else [node.type]
+            self.assertTrue(all(name.id in own for name in caught), place)
+        for place, node in nodes(ast.Raise):
+            self.assertIsInstance(node.exc, ast.Call, place)
+            self.assertIn(node.exc.func.id, own, place)
+
+    def test_attributes_are_assigned_in_the_package_and_are_no_methods(self):
+        assigned = {node.attr for _, node in nodes(ast.Attribute) if isinstance(node.ctx, ast.Store)}
+        methods = {part.name for _, node in nodes(ast.ClassDef) for part in node.body
+                   if isinstance(part, ast.FunctionDef)}
+        for place, node in nodes(ast.Attribute):
+            if isinstance(node.ctx, ast.Load):
+                self.assertIn(node.attr, assigned | methods | set(METHODS), place)
+        self.assertEqual(assigned & methods, set())
+
+    def test_classes_stand_where_classes_may(self):
+        classes = [node.name for _, node in nodes(ast.ClassDef)]
+        for path in files():
+            for node in ast.walk(ast.parse(path.read_text())):
+                if isinstance(node, ast.Call):
+                    passed = node.args[:1] if isinstance(node.func,
+                                                         ast.Name) and node.func.id == "isinstance" else node.args
+                    self.assertFalse(any(isinstance(value, ast.Name) and value.id in classes for value in passed),
+                                     path.name)
 
     def test_called_methods_are_allowed_or_own(self):
         own = [node.name for _, node in nodes(ast.FunctionDef)]
