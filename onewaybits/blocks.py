@@ -13,7 +13,7 @@ class BlockRead:
     """What the pages of a block tell, as they were when they were read."""
 
     def __init__(self, told, next_page):
-        # What is told is a list of tuples (page, record), empty if the block has no head.
+        # What is told is a tuple of tuples (page, record), empty if the block has no head.
         self.head = None
         self.seal = None
         if len(told) > 0:
@@ -32,8 +32,8 @@ def read_block(chip, block):
     _check_chip(chip)
     if not is_int_from(block, 0, chip.blocks - 1):
         raise InvalidBlock(block)
-    pages = [chip.read(block, page) for page in range(chip.pages)]
-    return BlockRead(_told_by(pages), _next_page(pages))
+    told, next_page = _read_of(chip, block)
+    return BlockRead(told, next_page)
 
 
 def counting(chip):
@@ -57,9 +57,34 @@ def tail_and_reads(chip):
     return tail, [(block, reads[block]) for _, block in found]
 
 
+def records_told(chip, block):
+    """Return a tuple (page, record) for each page of a block that tells a record, a Head and a Seal, too."""
+    told, _ = _read_of(chip, block)
+    return list(told)
+
+
+def free_blocks(chip, counted):
+    """Return the good blocks beside those that count, going round from behind the last one of these, or from 0 on."""
+    start = 0
+    if len(counted) > 0:
+        start = counted[-1] + 1
+    around = list(range(start, chip.blocks)) + list(range(start))
+    return [block for block in around if not chip.is_bad(block) and block not in counted]
+
+
 def _check_chip(chip):
     if not isinstance(chip, Chip):
         raise InvalidChip(chip)
+
+
+def _read_of(chip, block):
+    """Return what the pages of a block tell, and its next page, as the chip keeps them until the block changes."""
+    read = chip.kept_read(block)
+    if read is None:
+        pages = [chip.read(block, page) for page in range(chip.pages)]
+        read = (_told_by(pages), _next_page(pages))
+        chip.keep_read(block, read)
+    return read
 
 
 def _told_by(pages):
@@ -68,10 +93,10 @@ def _told_by(pages):
     for page, octets in enumerate(pages):
         record = _read_page(octets)
         if page == 0 and not isinstance(record, Head):
-            return []
+            return ()
         if record is not None:
             told.append((page, record))
-    return told
+    return tuple(told)
 
 
 def _read_page(octets):

@@ -38,6 +38,8 @@ class Chip:
         self._turned_bad = [False] * blocks
         self._cut_plans = {}
         self._fail_plans = {}
+        # What others have made of the octets of blocks, until these change: they are read again and again.
+        self._reads = {}
 
     def read(self, block, page):
         """Return the octets of a page."""
@@ -93,6 +95,14 @@ class Chip:
         """Return the set of the bad blocks."""
         return [block for block in range(self.blocks) if self._turned_bad[block]]
 
+    def kept_read(self, block):
+        """Return what is kept of a block, or None if nothing is or the block was changed since."""
+        return self._reads.get(block)
+
+    def keep_read(self, block, read):
+        """Keep what was made of the octets of a block until they change."""
+        self._reads[block] = read
+
     def _check_block(self, block):
         if not is_int_from(block, 0, self.blocks - 1):
             raise InvalidBlock(block)
@@ -116,16 +126,20 @@ class Chip:
         if cut_mask is not None:
             self.cuts += 1
             if not self._turned_bad[block]:
-                self._octets[block] = changed(self._octets[block], new, cut_mask)
+                self._set_octets(block, changed(self._octets[block], new, cut_mask))
             raise PowerCut(op)
         if self._turned_bad[block]:
             return False
         if fail_mask is not None and len(self.bad_blocks()) < self.bad:
-            self._octets[block] = changed(self._octets[block], new, fail_mask)
+            self._set_octets(block, changed(self._octets[block], new, fail_mask))
             self._turned_bad[block] = True
             return False
-        self._octets[block] = new
+        self._set_octets(block, new)
         return True
+
+    def _set_octets(self, block, octets):
+        self._octets[block] = octets
+        self._reads.pop(block, None)
 
 
 def image(chip):

@@ -2,7 +2,7 @@
 
 from onewaybits.errors import InvalidBlock
 from onewaybits.kinds import is_int, is_int_from
-from onewaybits.meaning import last_number_told_by, ready_tail_and_reads, tree_told_by
+from onewaybits.meaning import last_number_told_by, places_told_by, ready_tail_and_reads, tree_told_by
 from onewaybits.records import moved
 from onewaybits.versions import NOW, needed, selected
 
@@ -23,12 +23,13 @@ class Index:
         self.blocks = tuple([block for block, _ in reads])
         self.head = head
         self.seq = head_read.head.seq
+        self.is_cleaning = head_read.head.is_cleaning
         self.tail = tail
         self.next_page = head_read.next_page
         self.next_number = last_number_told_by(reads) + 1
         self.next_id = tree.next_id
         self._tree = tree
-        self._set_places([(block, page, record) for block, read in reads for page, record in read.records])
+        self._set_places(places_told_by(reads))
 
     def place_of(self, key):
         """Return the tuple (block, page, record) of the record of a key that is selected for now, or None."""

@@ -15,7 +15,8 @@ def is_int(value):
 
 def is_int_from(value, least, greatest):
     """Tell whether a value is an integer from the least to the greatest one."""
-    return is_int(value) and least <= value <= greatest
+    # This is asked of each number of each record that is read, so the test of an integer is written out.
+    return isinstance(value, int) and not isinstance(value, bool) and least <= value <= greatest
 
 
 def is_list(value):

@@ -48,8 +48,13 @@ def last_number_told_by(reads):
     return max(numbers)
 
 
+def places_told_by(reads):
+    """Return the tuples (block, page, record) of the records that count, of which the counting blocks tell this."""
+    return [(block, page, record) for block, read in reads for page, record in read.records]
+
+
 def _counting_in(reads):
-    return [record for _, read in reads for _, record in read.records]
+    return [record for _, _, record in places_told_by(reads)]
 
 
 def _all_in(reads):

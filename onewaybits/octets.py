@@ -65,6 +65,11 @@ def in_octets(number, count):
         raise InvalidCount(count)
     if not is_int(number) or number < 0 or number.bit_length() > 8 * count:
         raise InvalidNumber(number)
+    return octets_telling(number, count)
+
+
+def octets_telling(number, count):
+    """Return the tuple of so many octets that tell what is known to be a number that they can tell."""
     return tuple([(number >> (8 * k)) & 255 for k in reversed(range(count))])
 
 

@@ -3,7 +3,7 @@
 from onewaybits.errors import InvalidData, InvalidName, InvalidNumber, InvalidOctets, InvalidRecord
 from onewaybits.facts import CHUNK_OCTETS, DIRECTORY, FILE, GONE, MOST_CHUNKS, MOST_SIZE, NO_NODE, ROOT, chunk_count
 from onewaybits.kinds import DATA_OCTETS, LETTERS, MOST_NUMBER, is_int_from, is_name, is_octets_of
-from onewaybits.octets import in_octets, number_told_by
+from onewaybits.octets import number_told_by, octets_telling
 
 MOST_RECORDS = 6
 MOST_MOVED = 14
@@ -172,6 +172,11 @@ def is_tree_record(value):
     return isinstance(value, (Node, Name, Chunk, Keep))
 
 
+def is_moved(value):
+    """Tell whether a value is a moved record."""
+    return is_tree_record(value) and value.of == 0
+
+
 def record_of(fact, deed, at, of, until=0):
     """Return the tree record that tells a fact with these numbers."""
     if fact[0] == "node":
@@ -198,14 +203,14 @@ def written(record):
     """Return the 30 octets that tell a record."""
     if isinstance(record, Head):
         kind = CLEANING_KIND if record.is_cleaning else HEAD_KIND
-        return _filled((kind,) + in_octets(record.seq, 4) + in_octets(record.tail, 4), DATA_OCTETS)
+        return _filled((kind,) + octets_telling(record.seq, 4) + octets_telling(record.tail, 4), DATA_OCTETS)
     if isinstance(record, Seal):
-        return _filled((SEAL_KIND,) + in_octets(record.tail, 4) + (record.count,), DATA_OCTETS)
+        return _filled((SEAL_KIND,) + octets_telling(record.tail, 4) + (record.count,), DATA_OCTETS)
     if not is_tree_record(record):
         raise InvalidRecord(record)
     fact = record.fact()
-    numbers = (FACT_KINDS[fact[0]],) + in_octets(record.deed, 4) + (record.at, record.of)
-    return _filled(numbers + _octets_of_fact(fact), UNTIL_PLACE) + in_octets(record.until, 4)
+    numbers = (FACT_KINDS[fact[0]],) + octets_telling(record.deed, 4) + (record.at, record.of)
+    return _filled(numbers + _octets_of_fact(fact), UNTIL_PLACE) + octets_telling(record.until, 4)
 
 
 def read_record(data):
@@ -269,13 +274,13 @@ def _filled(octets, count):
 def _octets_of_fact(fact):
     if fact[0] == "node":
         _, node, what, size, chunks = fact
-        return in_octets(node, 2) + (what, size, chunks)
+        return octets_telling(node, 2) + (what, size, chunks)
     if fact[0] == "name":
         _, directory, name, node = fact
-        return in_octets(directory, 2) + in_octets(node, 2) + _octets_of_name(name)
+        return octets_telling(directory, 2) + octets_telling(node, 2) + _octets_of_name(name)
     if fact[0] == "chunk":
         _, node, index, octets = fact
-        return in_octets(node, 2) + (index,) + octets
+        return octets_telling(node, 2) + (index,) + octets
     _, name, is_kept = fact
     return (int(is_kept),) + _octets_of_name(name)
 

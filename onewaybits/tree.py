@@ -3,7 +3,7 @@
 from onewaybits.changes import outcome
 from onewaybits.errors import InvalidDeed, InvalidName, InvalidPath, NoThing
 from onewaybits.facts import (
-    DIRECTORY, EMPTY_CHUNK, FILE, GONE, MOST_CHUNKS, MOST_SIZE, NO_NODE, ROOT, chunk_indices, has_chunk,
+    DIRECTORY, EMPTY_CHUNK, GONE, MOST_CHUNKS, MOST_SIZE, NO_NODE, ROOT, chunk_indices, has_chunk,
 )
 from onewaybits.kinds import is_int_from, is_name, is_octets, is_path
 
@@ -246,6 +246,15 @@ def is_deed(value):
     if value[0] == "all":
         return len(value) == 2 and _are_deeds_together(value[1])
     return _is_single_deed(value)
+
+
+def lasting_deed(deed):
+    """Return a deed that tells the same, but in which octets are a tuple, so that nobody can change it."""
+    if deed[0] == "all":
+        return ("all", tuple([lasting_deed(part) for part in deed[1]]))
+    if deed[0] == "write":
+        return deed[:3] + (tuple(deed[3]),)
+    return deed
 
 
 def _is_worded(value):

@@ -192,7 +192,10 @@ class LanguageTest(unittest.TestCase):
         for place, node in nodes(ast.Attribute):
             if isinstance(node.ctx, ast.Load):
                 self.assertIn(node.attr, assigned | methods | set(METHODS), place)
-        self.assertEqual(assigned & methods, set())
+        for place, node in nodes(ast.ClassDef):
+            own = {part.attr for part in ast.walk(node)
+                   if isinstance(part, ast.Attribute) and isinstance(part.ctx, ast.Store)}
+            self.assertEqual(own & {part.name for part in node.body if isinstance(part, ast.FunctionDef)}, set(), place)
 
     def test_classes_stand_where_classes_may(self):
         classes = [node.name for _, node in nodes(ast.ClassDef)]
