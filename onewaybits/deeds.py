@@ -29,7 +29,7 @@ def read_deed(line):
     if not isinstance(line, str):
         raise InvalidLine(line)
     step = _step_told_by(line)
-    # What is read with mercy, as 07 or two runs of one octet, has another line.
+    # What is read with mercy, as two runs of one octet, has another line.
     if not _is_step(step) or _line(step) != line:
         raise InvalidLine(line)
     return step
@@ -40,6 +40,15 @@ def read_script(lines):
     if not is_list(lines) or len(lines) > MOST_STEPS:
         raise InvalidScript(lines)
     return [read_deed(line) for line in lines]
+
+
+def number_in_word(word, most_digits):
+    """Return the integer that has this word, or None if there is none with at most so many digits."""
+    if not 1 <= len(word) <= most_digits or not all([sign in DIGITS for sign in word]):
+        return None
+    if word[0] == "0" and len(word) > 1:
+        return None
+    return int(word)
 
 
 def _is_step(value):
@@ -116,9 +125,7 @@ def _path_told_by(word):
 
 
 def _number_told_by(word):
-    if len(word) == 0 or len(word) > MOST_DIGITS or not all([sign in DIGITS for sign in word]):
-        return None
-    return int(word)
+    return number_in_word(word, MOST_DIGITS)
 
 
 def _octets_told_by(word):
